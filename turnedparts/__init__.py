@@ -1,0 +1,1 @@
+"""Programs of a small language, done and looked at from outside."""
