@@ -46,6 +46,13 @@ class Misfits(unittest.TestCase):
                      "def f(@(a)):", "def f(@?a):", "def f(a @/b):"):
             self.at(text)
 
+    def test_parameters_behind_one_with_a_default(self):
+        for text in ("def f(a=b, c@):", "def f(a=b, c@):\n    pass", "def f(a=b, c@, /):\n    pass", "def f(a=b, /, c@):\n    pass",
+                     "def f(a, b=c, d@, e=c):\n    pass", "def f(a=b, c@,):", "def f(a=b, c@, *, d):", "def f(a=b, c @d):",
+                     "def f(a=b, @a):", "def f(a=b, c=d, e@)", "def f(a=b, c@", "see lambda a=b, c@: a", "see lambda a=b, /, c@: a",
+                     "see lambda a=b, c@, d=a: a", "a = lambda a=b, c@", "see (lambda a=lambda b=c, d@: a: b)"):
+            self.at(text)
+
     def test_classes(self):
         for text in ("class @A:", "class c@", "class c(@?p()):", "class c(@none):", 'class c(@"a"):', "class c(a@()):",
                      "class c(a.b@.c):", "class c(a.@make):", "class c(a.@if):", "class c(a @b):", "class c(a,@,):",

@@ -192,11 +192,16 @@ class Read(unittest.TestCase):
     def test_what_is_read_need_not_be_of_a_program(self):
         deep = "a" + ".b" * 40
         self.assertFalse(is_expr(read_module(deep)[0][1]))
-        self.assertEqual(read_module("def f(a=a, b):\n    pass"),
-                         (("def", "f", (("a", "plain", A), ("b", "plain", None)), PASS),))
         self.assertEqual(read_module("see a\nyield b\nnonlocal a"), (("see", A), ("yield", B), ("nonlocal", ("a",))))
         self.assertEqual(read_module("class c:\n    make = none\n    c = c()"),
                          (("class", "c", (), (("let", "make", ("none",)), ("let", "c", ("call", ("name", "c"), (), ())))),))
+
+    def test_parameters_behind_one_with_a_default(self):
+        self.assertEqual(read_module("def f(a=b, b=a, /, c=a, *, d, e=a, g):\n    pass"),
+                         (("def", "f", (("a", "front", B), ("b", "front", A), ("c", "plain", A), ("d", "only", None),
+                                        ("e", "only", A), ("g", "only", None)), PASS),))
+        self.assertEqual(read_module("lambda a, b=a, *, c: a"),
+                         (("do", ("lambda", (("a", "plain", None), ("b", "plain", A), ("c", "only", None)), A)),))
 
     def test_deep_blocks(self):
         rows = ["    " * depth + "if a:" for depth in range(11)] + ["    " * 11 + "pass"]

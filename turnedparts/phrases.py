@@ -135,5 +135,8 @@ def read_params(cursor, close, depth):
 
 def read_param(cursor, kind, rows, depth):
     name = cursor.name([row[0] for row in rows])
+    # Behind a front or plain one with a default all of them have one.
+    if kind == "plain" and rows and rows[-1][2] is not None and not cursor.is_at("sign", "="):
+        cursor.misfit()
     default = read_expr(cursor, depth) if cursor.skip("sign", "=") else None
     return (name, kind, default)
