@@ -89,3 +89,60 @@ class Doing(unittest.TestCase):
             self.sees(see([None, "taken"]) + back(), front + "\n".join(rows + safe) + "\n", many, **modules)
         safe = ["    try:"] + ["    " + row for row in body] + ["    except bad:", "        see \"no\""]
         self.sees([WRONG], front + "\n".join(rows + safe) + "\n", many, **modules)
+
+
+def told(text, **modules):
+    """A program of texts, the first one of module m."""
+    program = {"m": read_module(text), **{name: read_module(row) for name, row in modules.items()}}
+    check_program(program)
+    return program
+
+
+def call(many=0, names=(), name="f"):
+    return ("call", "m", name, many, tuple(names))
+
+
+def term(name, *values):
+    """The term of an operation; strings among the values are inputs, others are values."""
+    return ("op", name, tuple(("input", row) if isinstance(row, str) else row for row in values))
+
+
+def ways_of(tree):
+    """The pairs of choices and events of a tree, choices as a list of pairs of a condition and an answer."""
+    if tree[0] == "leaf":
+        return [([], tree[1])]
+    condition = tree[1] if tree[0] == "go" else ("if", tree[1])
+    return [([(condition, answer), *choices], events) for answer, branch in ((True, tree[2]), (False, tree[3]))
+            for choices, events in ways_of(branch)]
+
+
+class Numbers:
+    """Numbers for terms: a world in which a way is gone, and events in it."""
+
+    def __init__(self, choices, events):
+        self.terms = {}
+        self.inputs = {}
+        self.table = {}
+        truths = [self.number(part[1]) for part, answer in choices if part[0] == "if" and answer]
+        for part, _ in choices:
+            if part[0] == "if":
+                self.number(part[1])
+        self.events = [row if len(row) == 1 else (*row[:-1], self.value(row[-1])) for row in events]
+        stops = [part[1] for part, answer in choices if part[0] == "go" and not answer]
+        self.world = World(self.inputs, self.table, truths, min(stops) if stops else None)
+
+    def number(self, told):
+        if told not in self.terms:
+            if told[0] == "input":
+                self.terms[told] = self.inputs[told[1]] = len(self.terms) + 1
+            else:
+                values = tuple(self.value(part) for part in told[2])
+                self.terms[told] = self.table[(told[1], values)] = len(self.terms) + 1
+        return self.terms[told]
+
+    def value(self, told):
+        if told[0] in ("input", "op"):
+            return ("number", self.number(told))
+        if told[0] == "tuple":
+            return ("tuple", tuple(map(self.value, told[1])))
+        return told

@@ -4,11 +4,14 @@ import copy
 import unittest
 
 from chance import program_by_chance
+from turnedparts.alikes import judge, tree
 from turnedparts.errors import BadProgram, BadText, BadUse, BadWorld, Handed, Ring, TooLarge
+from turnedparts.leaving import lean
 from turnedparts.outside import seen, uses
 from turnedparts.programs import check_program, is_program
 from turnedparts.reading import read_module
 from turnedparts.shapes import is_expr
+from turnedparts.tellings import hangs_on, is_silent, kinds_raised, never_done
 from turnedparts.worlds import World
 from turnedparts.writing import write_expr, write_module
 
@@ -27,6 +30,12 @@ class Conventions(unittest.TestCase):
         write_module(program, "m")
         for use in uses(program, program):
             seen(program, use, world)
+            tree(program, use)
+            for ask in (kinds_raised, is_silent, hangs_on):
+                ask(program, use)
+        never_done(program)
+        judge(program, {**program, "m": program["m"][:-1]})
+        lean(program)
         self.assertEqual(program, kept)
         self.assertEqual(list(program), order)
         self.assertEqual(world, kept_world)
@@ -43,6 +52,23 @@ class Conventions(unittest.TestCase):
             kept = list(events)
             events.append("more")
             self.assertEqual(seen(program, use, world), kept)
+
+    def test_answers_of_tellings_are_new(self):
+        program = {"m": read_module("def f(a):\n    if a:\n        raise bad\n    return\n    pass\n")}
+        use = ("call", "m", "f", 1, ())
+        for ask in (lambda: kinds_raised(program, use), lambda: hangs_on(program, use), lambda: never_done(program)):
+            found = ask()
+            kept = list(found)
+            self.assertEqual(len(found), 1)
+            found.clear()
+            self.assertEqual(ask(), kept)
+        for ask in (lambda: judge(program, program), lambda: judge(program, {"m": ()}), lambda: lean(program)):
+            found, kept = ask(), ask()
+            self.assertEqual(found, kept)
+            for name in vars(found):
+                setattr(found, name, None)
+            self.assertEqual(ask(), kept)
+            self.assertNotEqual(ask(), found)
 
     def test_programs_are_not_kept(self):
         program = {"m": read_module('def f():\n    return "a"\n')}
@@ -70,6 +96,10 @@ class Conventions(unittest.TestCase):
         world = World({}, {("p", ()): 6}, [], None)
         for use in uses(one):
             self.assertEqual(seen(one, use, world), seen(other, use, world))
+            self.assertEqual(tree(one, use), tree(other, use))
+        self.assertEqual(never_done(one), never_done(other))
+        self.assertEqual(lean(one), lean(other))
+        self.assertTrue(judge(one, other))
 
     def test_lists_are_no_tuples(self):
         told = read_module("x = (none, none)\n")
@@ -127,6 +157,15 @@ class Conventions(unittest.TestCase):
                 except (Ring, Handed):
                     continue
                 self.assertEqual(events, seen(copy.deepcopy(program), use, copy.deepcopy(world)))
+
+    def test_judging_is_asked_again(self):
+        one, other = {"m": read_module(TEXT)}, {"m": read_module(TEXT.replace("see a", "see (a,)"))}
+        for first, second in ((one, one), (one, other), (other, one)):
+            self.assertEqual(judge(first, second), judge(copy.deepcopy(first), copy.deepcopy(second)))
+        self.assertEqual(lean(one), lean(copy.deepcopy(one)))
+        for use in uses(one):
+            self.assertEqual(tree(one, use), tree(copy.deepcopy(one), use))
+            self.assertEqual(hangs_on(one, use), hangs_on(copy.deepcopy(one), use))
 
     def test_texts_are_asked_again(self):
         self.assertEqual(read_module(TEXT), read_module(TEXT))

@@ -21,8 +21,8 @@ OUTSIDE = r"""
 [11, [('see', ('number', 5)), ('back', ('number', 9))], [('raise', 'wrong', ('none',))]]
 """
 
-# The row that imports judge of turnedparts.alikes, which it does not use, is left out.
 GENERATORS = r"""
+>>> from turnedparts.alikes import judge
 >>> from turnedparts.outside import seen
 >>> from turnedparts.reading import read_module
 >>> from turnedparts.worlds import World
@@ -39,6 +39,43 @@ CLASSES = r"""
 >>> program = {'m': read_module('class _b:\n    def get(self):\n        return self.x\nclass c(_b):\n    def make(self, x):\n        self.x = ?f(x)\n')}
 >>> [seen(program, ('method', 'm', 'c', 1, (), 'get', 0, ()), World({'0': 2}, {('f', (('number', 2),)): 7}, [], None)), seen(program, ('read', 'm', 'c'), World({}, {}, [], None))]
 [[('back', ('number', 7))], [('back', ('class',))]]
+"""
+
+TREES = r"""
+>>> from turnedparts.alikes import tree
+>>> from turnedparts.reading import read_module
+>>> program = {'m': read_module('def f(a):\n    return "y" if a else ?g(a)\n')}
+>>> tree(program, ('call', 'm', 'f', 1, ()))
+('if', ('input', '0'), ('leaf', (('back', ('text', 'y')),)), ('leaf', (('back', ('op', 'g', (('input', '0'),))),)))
+"""
+
+JUDGING = r"""
+>>> from turnedparts.alikes import judge
+>>> from turnedparts.reading import read_module
+>>> one = {'m': read_module('def f(a, b):\n    x = ?g(a)\n    see b\n    return x\n')}
+>>> two = {'m': read_module('def _h(b):\n    see b\ndef f(a, b):\n    _h(b)\n    return ?g(a)\n')}
+>>> three = {'m': read_module('def f(b, a):\n    see b\n    return ?g(a)\n')}
+>>> found = judge(one, three)
+>>> [bool(judge(one, two)), bool(found), found.use, found.place]
+[True, False, ('call', 'm', 'f', 1, ('a',)), 0]
+"""
+
+TELLINGS = r"""
+>>> from turnedparts.reading import read_module
+>>> from turnedparts.tellings import hangs_on, is_silent, kinds_raised, never_done
+>>> program = {'m': read_module('def f(a, b):\n    if a:\n        if a:\n            return ?g(a)\n        see b\n    raise bad\n')}
+>>> use = ('call', 'm', 'f', 2, ())
+>>> [kinds_raised(program, use), hangs_on(program, use), is_silent(program, use), never_done(program)]
+[['bad'], ['0'], True, [('m', 4)]]
+"""
+
+LEAVING = r"""
+>>> from turnedparts.leaving import lean
+>>> from turnedparts.reading import read_module
+>>> from turnedparts.writing import write_module
+>>> program = {'m': read_module('def f(a):\n    x = ?g(a)\n    y = x\n    see a\n    return x\n')}
+>>> write_module(lean(program).program, 'm')
+'def f(a):\n    x = ?g(a)\n    see a\n    return x\n'
 """
 
 
@@ -61,6 +98,18 @@ class Examples(unittest.TestCase):
 
     def test_classes(self):
         self.check(CLASSES)
+
+    def test_trees(self):
+        self.check(TREES)
+
+    def test_judging(self):
+        self.check(JUDGING)
+
+    def test_tellings(self):
+        self.check(TELLINGS)
+
+    def test_leaving(self):
+        self.check(LEAVING)
 
 
 if __name__ == "__main__":

@@ -181,10 +181,22 @@ class Language(unittest.TestCase):
             "errors": ["PartsError", "BadProgram", "BadText", "BadUse", "BadWorld", "Ring", "TooLarge", "Handed"],
             "programs": ["check_program", "is_program"], "shapes": ["is_expr"], "reading": ["read_module"],
             "writing": ["write_module", "write_expr"], "worlds": ["World"], "outside": ["uses", "seen"],
+            "alikes": ["Alike", "Unlike", "judge", "tree"], "leaving": ["Lean", "lean"],
+            "tellings": ["kinds_raised", "is_silent", "hangs_on", "never_done"],
         }
         for stem, names in listed.items():
             there = defined_in(tree_of(FOLDER / f"{stem}.py"))
             self.assertLessEqual(set(names), there, stem)
+
+    def test_methods_stand_in_their_classes(self):
+        listed = {"worlds": {"World": ["__eq__"]}, "alikes": {"Alike": ["shows", "__eq__", "__bool__"], "Unlike": ["shows", "__eq__", "__bool__"]},
+                  "leaving": {"Lean": ["shows", "__eq__"]}}
+        for stem, classes in listed.items():
+            for node in tree_of(FOLDER / f"{stem}.py").body:
+                if isinstance(node, ast.ClassDef):
+                    there = {inner.name for inner in node.body if isinstance(inner, ast.FunctionDef)}
+                    self.assertLessEqual(set(classes.get(node.name, [])), there, node.name)
+                    self.assertLessEqual(set(classes), defined_in(tree_of(FOLDER / f"{stem}.py")))
 
 
 if __name__ == "__main__":

@@ -1,9 +1,11 @@
 """[3] Texts that are read, and written."""
 
+import random
+import re
 import unittest
 
 from chance import program_by_chance
-from turnedparts.errors import BadProgram
+from turnedparts.errors import BadProgram, BadText
 from turnedparts.programs import check_program
 from turnedparts.reading import read_module
 from turnedparts.shapes import is_expr
@@ -15,6 +17,21 @@ PASS = (("pass",),)
 
 def plain(*names):
     return tuple((name, "plain", None) for name in names)
+
+
+def has_form(block):
+    """Whether the statements of a block are of the forms of statements: what stands behind them is the first that is not."""
+    try:
+        check_program({"m": (*block, "no form")})
+    except BadProgram as error:
+        return error.number == sum(map(size, block))
+    return False
+
+
+def size(statement):
+    blocks = {"def": [3], "class": [3], "if": [2, 3], "for": [3], "each": [3], "with": [3], "try": [1, 3]}.get(statement[0], [])
+    return 1 + sum(size(row) for at in blocks for row in statement[at]) + sum(
+        size(row) for handler in (statement[2] if statement[0] == "try" else ()) for row in handler[2])
 
 
 LINES = [
@@ -202,6 +219,28 @@ class Read(unittest.TestCase):
                                         ("e", "only", A), ("g", "only", None)), PASS),))
         self.assertEqual(read_module("lambda a, b=a, *, c: a"),
                          (("do", ("lambda", (("a", "plain", None), ("b", "plain", A), ("c", "only", None)), A)),))
+
+    def test_what_is_read_has_the_forms_of_statements(self):
+        # Lines changed by chance: they do not fit, or what is read is a tuple of statements.
+        chance = random.Random(7)
+        words = ["(", ")", ",", "=", ".", "?", ":", "*", "/", "if", "else", "lambda", "a", "none", "make", "in", '"x"', "abcdefghijklm",
+                 "as", "(a, /, b=c)", "*, a", "b=a", "=a", " ", "e=none, ", "a=a, b"]
+        texts = [write_module(program, name) for program in (program_by_chance(seed)[0] for seed in range(40)) if program for name in program]
+        lines = sorted({line.strip() for text in texts for line in text.split("\n")} - {""})
+        lines = [line for line in lines if not line.startswith(("else", "except", "finally", "try"))]
+        many = 0
+        for _ in range(20000):
+            parts = re.findall(r'\w+|"[^"]*"|\s+|.', chance.choice(lines)) + [""]
+            spot = chance.randrange(len(parts))
+            parts[spot:spot + chance.randint(0, 1)] = [chance.choice(words + parts)]
+            line = "".join(parts)
+            try:
+                told = read_module(line + "\n    pass" if line.endswith(":") else line)
+            except BadText:
+                continue
+            many += 1
+            self.assertTrue(has_form(told), line)
+        self.assertGreater(many, 2000)
 
     def test_deep_blocks(self):
         rows = ["    " * depth + "if a:" for depth in range(11)] + ["    " * 11 + "pass"]

@@ -37,6 +37,8 @@ def make_defaults(maker, params):
 def make_block(maker, block):
     """Make the rows of a block; the number is that of its first statement, then of what is behind."""
     for statement in block:
+        if maker.built.is_traced:
+            maker.emit("mark", (maker.module, maker.number))
         make_told = STATEMENTS[statement[0]]
         make_told(maker, statement)
 

@@ -32,6 +32,13 @@ class Built:
         self.tops_rows = {}
         self.families = {}
         self.found = {}
+        # The statements in functions that are done, by module and number, if they are traced.
+        self.is_traced = False
+        self.done = {}
+
+    def trace(self):
+        """Keep, from here on, which statements in functions are done."""
+        self.is_traced = True
 
     def new_code(self, module, number, kind):
         """A new code, for a statement with a number in a module."""

@@ -53,6 +53,10 @@ def see(run, frame, row):
     run.events.append(("see", value))
 
 
+def mark_as_done(run, frame, row):
+    run.built.done[row[1]] = True
+
+
 def leave_by_return(run, frame, row):
     run.signal = ("return", frame.stack.pop())
 
@@ -137,6 +141,7 @@ DOING = {
     "items": put_items,
     "item": put_item,
     "see": see,
+    "mark": mark_as_done,
     "return": leave_by_return,
     "raise": leave_by_raise,
     "wait": wait_at_begin,

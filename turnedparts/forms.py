@@ -1,6 +1,5 @@
 """The forms in which defs can be called, and the uses that programs have by them."""
 
-from turnedparts.codes import Built
 from turnedparts.errors import TooLarge
 from turnedparts.words import is_public
 
@@ -35,20 +34,28 @@ def see_not_too_long(params):
         raise TooLarge("a def has too many parameters")
 
 
-def uses_of(programs):
-    """The ascending list of the uses of some programs."""
+def uses_of(builts, names=None):
+    """The ascending list of the uses of some programs, or of those of some names of tops alone."""
     found = {}
-    for program in programs:
-        built = Built(program)
-        for module in sorted(program):
-            for name in sorted(built.tops.rows[module]):
-                if is_public(module) and is_public(name):
-                    for use in uses_of_name(built, module, name):
-                        found[use] = True
+    for built in builts:
+        for module, name in public_names(built):
+            if names is None or (module, name) in names:
+                for use in uses_of_name(built, module, name):
+                    found[use] = True
     uses = sorted(found)
     see_not_too_many([use[:3] for use in uses if use[0] == "call"], MOST_FORMS)
     see_not_too_many([use[:3] for use in uses if use[0] == "method"], MOST_METHOD_USES)
     return uses
+
+
+def public_names(built):
+    """The pairs of a public module and a public name of its top, ascending."""
+    found = []
+    for module in sorted(built.tops.rows):
+        if is_public(module):
+            names = sorted(built.tops.rows[module])
+            found.extend([(module, name) for name in names if is_public(name)])
+    return found
 
 
 def see_not_too_many(heads, most):

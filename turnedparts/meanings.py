@@ -6,7 +6,7 @@ class Told:
 
     def __init__(self, world):
         self.inputs = {name: world.inputs[name] for name in world.inputs}
-        self.table = {flat(row[0], row[1]): world.table[row] for row in world.table}
+        self.table = flat_table(world.table)
         self.truths = {number: True for number in world.truths}
         self.stop = world.stop
 
@@ -25,6 +25,11 @@ class Told:
     def goes_on(self, many):
         """Whether outside goes on behind so many items."""
         return self.stop is None or many < self.stop
+
+
+def flat_table(table):
+    """A table of a world, with keys without tuples in them."""
+    return {flat(row[0], row[1]): table[row] for row in table}
 
 
 def flat(name, values):

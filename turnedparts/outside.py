@@ -13,7 +13,7 @@ def uses(one, other=None):
     programs = [one] if other is None else [one, other]
     for program in programs:
         check_program(program)
-    return uses_of(programs)
+    return uses_of([Built(program) for program in programs])
 
 
 def seen(program, use, world):

@@ -1,6 +1,7 @@
 """Worlds: what inputs are, what operations mean, and what is true."""
 
 from turnedparts.errors import BadWorld
+from turnedparts.meanings import flat_table
 from turnedparts.words import is_name, is_text, is_whole
 
 
@@ -24,7 +25,8 @@ class World:
         self.stop = stop
 
     def __eq__(self, other):
-        return (isinstance(other, World) and self.inputs == other.inputs and self.table == other.table
+        return (isinstance(other, World) and self.inputs == other.inputs
+                and flat_table(self.table) == flat_table(other.table)
                 and self.truths == other.truths and self.stop == other.stop)
 
 
