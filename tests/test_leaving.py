@@ -304,6 +304,15 @@ class Evidence(unittest.TestCase):
             found.reasons[3] = Unlike(call(1), World({}, {}, truths, None), 1)
             self.assertIs(found.shows(program), is_shown)
 
+    def test_a_reason_in_whose_world_it_hands_out(self):
+        program = told('def f(a, /):\n    v = f\n    see "t" if v else none\n    v = none\n    if a:\n        see "t" if v else "u"\n    else:\n'
+                       '        see v\n')
+        found = lean(program)
+        self.assertEqual(found.program, program)
+        for truths, is_shown in (([0], True), ([], False)):
+            found.reasons[3] = Unlike(call(1), World({}, {}, truths, None), 1)
+            self.assertIs(found.shows(program), is_shown)
+
     def test_errors(self):
         for ask in (lean, self.found.shows, Lean({"m": ()}, []).shows):
             for thing in (None, {}, {"m": []}):

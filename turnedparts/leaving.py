@@ -117,7 +117,7 @@ def is_reason(reason, known, program, less):
         return reason is None and known is None
     try:
         return isinstance(reason, Unlike) and reason.shows(program, less)
-    except (Ring, Handed, TooLarge):
+    except (Ring, Handed):
         return False
 
 
