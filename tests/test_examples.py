@@ -1,6 +1,5 @@
 """The examples of the document's interface, as they stand there."""
 
-import doctest
 import unittest
 
 READING = r"""
@@ -78,14 +77,91 @@ LEAVING = r"""
 'def f(a):\n    x = ?g(a)\n    see a\n    return x\n'
 """
 
+HOUSES = r"""
+>>> from turnedparts.errors import NotAlike
+>>> from turnedparts.houses import House, watcher
+>>> from turnedparts.reading import read_module
+>>> house = House.of_texts(m='def f(a):\n    if a:\n        return a\n    else:\n        return a\n', strict=True)
+>>> news = watcher(house)
+>>> house.put('m', read_module('def f(a):\n    return a\n')).put('_n', ())
+>>> [news(), house.text('m', numbers=True), [row[1] for row in house.each_statement('return')], list(house)]
+[['_n', 'm'], '   0  def f(a):\n   1      return a\n', [1], ['_n', 'm']]
+"""
+
+BINDING = r"""
+>>> from turnedparts.binding import bindings
+>>> program = {'m': (('def', 'p', (('a', 'plain', None),), (('return', ('name', 'a')),)),)}
+>>> bindings(program)
+[('m', (0, 1), ('m', (), 'p')), ('m', (0, 2, 0, 0), ('m', (0,), 'a')), ('m', (0, 3, 0, 1, 1), ('m', (0,), 'a'))]
+"""
+
+RENAMING = r"""
+>>> from turnedparts.reading import read_module
+>>> from turnedparts.renaming import repairs
+>>> program = {'m': read_module('def p(a, /):\n    b = a\n    return b\n')}
+>>> repairs(program, {('m', (0,), 'a'): 'b'}).places
+{('m', (0,), 'b'): ('m', (0, 3, 0, 1))}
+"""
+
+EXTRACTING = r"""
+>>> from turnedparts.extracting import extract, put_back
+>>> from turnedparts.reading import read_module
+>>> from turnedparts.writing import write_module
+>>> program = {'m': read_module('def p(a, /):\n    a = ?next(a)\n    return a\n')}
+>>> late = extract(program, 'm', (0, 3), 0, 1, 'go')
+>>> [write_module(late, 'm'), put_back(late, 'm', (0, 3), 0) == program]
+['def p(a, /):\n    def go():\n        nonlocal a\n        a = ?next(a)\n    go()\n    return a\n', True]
+"""
+
+SIGNATURES = r"""
+>>> from turnedparts.reading import read_module
+>>> from turnedparts.signatures import change
+>>> from turnedparts.writing import write_module
+>>> program = {'m': read_module('def _g(t):\n    see t\n    return t\ndef _f(x, y):\n    return x\ndef p(a):\n    return _f(_g(a), y=_g("t"))\n')}
+>>> found = change(program, 'm', '_f', (('y', 'front', None), ('x', 'plain', None)))
+>>> [write_module(found.program, 'm')[-56:], found.puts]
+['def p(a):\n    _va = _g(a)\n    return _f(_g("t"), x=_va)\n', {('m', (2, 3, 0, 1)): (0,)}]
+"""
+
+TURNING = r"""
+>>> from turnedparts.reading import read_module
+>>> from turnedparts.turning import lazy
+>>> from turnedparts.writing import write_module
+>>> program = {'m': read_module('def p(a):\n    for i in (a, "t"):\n        see i\n')}
+>>> write_module(lazy(program, 'm', (0, 3), 0, 'items'), 'm')
+'def p(a):\n    def items():\n        yield a\n        yield "t"\n    each i in items():\n        see i\n'
+"""
+
+STEPS = r"""
+>>> from turnedparts.reading import read_module
+>>> from turnedparts.steps import Exchange, Rename
+>>> program = {'m': read_module('def p(a, /):\n    b = a\n    see a\n    return b\n')}
+>>> row = Rename({('m', (0,), 'b'): 'c'}) + Exchange('m', (0, 3), 0)
+>>> [len(row), row(program)['m'][0][3][1]]
+[2, ('let', 'c', ('name', 'a'))]
+"""
+
+MERGING = r"""
+>>> from turnedparts.merging import commute, merged
+>>> from turnedparts.reading import read_module
+>>> from turnedparts.steps import Exchange, Extract
+>>> program = {'m': read_module('def p(a, /):\n    see a\n    see "t"\n    return a\n')}
+>>> one, other = Extract('m', (0, 3), 0, 1, 'go'), Exchange('m', (0, 3), 0)
+>>> [bool(commute(program, one, other)), merged(program, [one], [Extract('m', (0, 3), 1, 1, 'on')]).others[0].first]
+[False, 2]
+"""
+
 
 class Examples(unittest.TestCase):
     def check(self, text):
-        test = doctest.DocTestParser().get_doctest(text, {}, "example", None, 0)
-        told = []
-        failed, tried = doctest.DocTestRunner(verbose=False).run(test, out=told.append)
-        self.assertEqual(failed, 0, "".join(told))
-        self.assertGreater(tried, 3)
+        """See that the last line, with those in front of it done, comes to what stands behind it."""
+        lines = text.strip().split("\n")
+        rows = [line.removeprefix(">>> ") for line in lines if line.startswith(">>> ")]
+        self.assertGreater(len(rows), 2)
+        self.assertEqual(len(lines), len(rows) + 1)
+        space = {}
+        exec("\n".join(rows[:-1]), space)
+        self.assertEqual(repr(eval(rows[-1], space)), lines[-1])
 
     def test_reading_and_writing(self):
         self.check(READING)
@@ -110,6 +186,30 @@ class Examples(unittest.TestCase):
 
     def test_leaving(self):
         self.check(LEAVING)
+
+    def test_houses(self):
+        self.check(HOUSES)
+
+    def test_binding(self):
+        self.check(BINDING)
+
+    def test_renaming(self):
+        self.check(RENAMING)
+
+    def test_extracting(self):
+        self.check(EXTRACTING)
+
+    def test_signatures(self):
+        self.check(SIGNATURES)
+
+    def test_turning(self):
+        self.check(TURNING)
+
+    def test_steps(self):
+        self.check(STEPS)
+
+    def test_merging(self):
+        self.check(MERGING)
 
 
 if __name__ == "__main__":

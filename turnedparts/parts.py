@@ -87,7 +87,7 @@ def inside(block):
 
 
 def given_by(statement):
-    """The names that a statement of a function gives, those in its blocks apart."""
+    """The names that a statement of a function gives, but for a try, those in its blocks apart."""
     kind = statement[0]
     if kind in ("let", "for", "each", "def"):
         return [statement[1]]
@@ -95,14 +95,26 @@ def given_by(statement):
         return list(statement[1])
     if kind == "with":
         return [] if statement[2] is None else [statement[2]]
-    if kind == "try":
-        return [row[1] for row in statement[2] if row[1] is not None]
     return []
 
 
 def given_in(block):
-    """The names that are given in a function's block, inner defs' blocks apart."""
-    return [name for statement in inside(block) for name in given_by(statement)]
+    """The names that are given in a function's block, as they stand, inner defs' blocks apart."""
+    found = []
+    for statement in block:
+        kind = statement[0]
+        if kind == "try":
+            found.extend(given_in(statement[1]))
+            for _, name, inner in statement[2]:
+                found.extend([] if name is None else [name])
+                found.extend(given_in(inner))
+            found.extend(given_in(statement[3]))
+            continue
+        found.extend(given_by(statement))
+        if kind != "def" and kind in WITH_BLOCKS:
+            for inner in blocks_of(statement):
+                found.extend(given_in(inner))
+    return found
 
 
 def beyond_of(block):
