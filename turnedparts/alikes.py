@@ -1,11 +1,12 @@
 """Programs judged: alike for all uses, inputs and meanings, or told apart by a world."""
 
-from turnedparts.asking import check_use
+from turnedparts.asking import check_use, watch
 from turnedparts.codes import Built
-from turnedparts.forms import uses_of
+from turnedparts.forms import see_not_too_large, uses_of
 from turnedparts.judging import Kept, first_unlike, judged, world_of
-from turnedparts.outside import seen
-from turnedparts.programs import check_program
+from turnedparts.machine import Run
+from turnedparts.meanings import Told
+from turnedparts.programs import checked
 from turnedparts.trees import are_same, is_tree_of, tree_of
 from turnedparts.ways import key_of
 from turnedparts.words import is_whole
@@ -26,9 +27,7 @@ class Alike:
 
     def shows(self, one, other):
         """Whether the trees are trees of both programs for their uses."""
-        check_program(one)
-        check_program(other)
-        builts = [Built(one), Built(other)]
+        builts = [Built(checked(one)), Built(checked(other))]
         found = uses_of(builts)
         if len(self.trees) != len(found) or not all([use in self.trees for use in found]):
             return False
@@ -55,20 +54,18 @@ class Unlike:
 
     def shows(self, one, other):
         """Whether the events of the use in the world differ first at the place."""
-        check_program(one)
-        check_program(other)
-        if self.use not in uses_of([Built(one), Built(other)]) or not is_whole(self.place):
+        builts = [Built(checked(one)), Built(checked(other))]
+        if self.use not in uses_of(builts) or not is_whole(self.place):
             return False
-        keys = [[key_of(event) for event in seen(program, self.use, self.world)] for program in (one, other)]
+        told = Told(self.world)
+        keys = [[key_of(event) for event in watch(Run(built, told), self.use)] for built in builts]
         return first_unlike(keys[0], keys[1]) == self.place
 
 
 def judge(one, other):
     """The evidence that two programs are alike, or that they are not."""
-    check_program(one)
-    check_program(other)
-    kept = Kept(one)
-    built = Built(other)
+    kept = Kept(checked(one))
+    built = Built(checked(other))
     leaves, found = gone_through(kept, built, uses_of([kept.built, built]))
     if found is not None:
         return found
@@ -89,8 +86,7 @@ def gone_through(kept, built, uses):
 
 def tree(program, use):
     """A tree of a use of a program."""
-    check_program(program)
+    kept = Kept(checked(program))
     check_use(use)
-    kept = Kept(program)
-    uses_of([kept.built])
+    see_not_too_large(kept.built)
     return tree_of(kept.terms_of(use), kept.plain_leaves(use))

@@ -6,7 +6,8 @@ with its module, as a pair.
 
 from turnedparts.parts import own_names
 from turnedparts.places import part_at
-from turnedparts.tops import Tops, given_by_top
+from turnedparts.programs import checked
+from turnedparts.tops import given_by_top
 
 
 class Home:
@@ -38,11 +39,14 @@ class Spot:
 
 
 class Names:
-    """All names of a program that mean variables, and the places of those at calls that are loose."""
+    """All names of a program that mean variables, and the places of those at calls that are loose.
+
+    BadProgram: it is none.
+    """
 
     def __init__(self, program):
         self.program = program
-        self.tops = Tops(program)
+        self.tops = checked(program)
         self.module = ""
         self.spots = {}
         # What gives a variable: pairs of a path and a statement, or of a path and None for a parameter.

@@ -1,7 +1,5 @@
 """What a program is done by: the codes of its defs, lambdas and lets, and its classes."""
 
-from turnedparts.parts import exprs_of, numbered, own_names, yields
-from turnedparts.tops import Tops
 from turnedparts.values import Family, Function, Space
 
 
@@ -24,10 +22,10 @@ class Code:
 
 
 class Built:
-    """A program with all that doing it needs."""
+    """A program, told by its tops, with all that doing it needs."""
 
-    def __init__(self, program):
-        self.tops = Tops(program)
+    def __init__(self, tops):
+        self.tops = tops
         self.marks = 0
         self.tops_rows = {}
         self.families = {}
@@ -49,8 +47,9 @@ class Built:
         """The code of a def in scopes, dicts of the own names of the functions around."""
         code = self.new_code(module, number, kind)
         code.params, code.body = statement[2], statement[3]
-        code.scopes = (own_names(code.params, code.body), *scopes)
-        code.is_walk = yields(code.body)
+        known = self.tops.functions[(module, number)]
+        code.scopes = (known.own, *scopes)
+        code.is_walk = known.is_walk
         return code
 
     def let_code(self, module, number, statement):
@@ -90,13 +89,13 @@ class Built:
 
     def new_family(self, module, number, statement):
         members = {}
-        for at, inner in numbered(statement[3], number + 1):
+        for name, (at, inner) in self.tops.classes[(module, number)].items():
             if inner[0] == "def":
                 function = Function(self.def_code(module, at, inner, "top", ()), None, {})
-                members[inner[1]] = ("def", function)
-            elif inner[0] == "let":
-                members[inner[1]] = ("let", self.let_code(module, at, inner))
-        return Family(module, statement[1], exprs_of(statement), members)
+                members[name] = ("def", function)
+            else:
+                members[name] = ("let", self.let_code(module, at, inner))
+        return Family(module, statement[1], list(statement[2]), members)
 
     def base(self, family, at):
         """The class that a base is, or None."""

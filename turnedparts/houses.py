@@ -60,7 +60,7 @@ class House:
 
     def both(self, other):
         """The house of the modules of both, the other one's where both have one, strict as that one is."""
-        return House({**self._held, **other.contents}, strict=other.strict)
+        return House({**self._held, **other._held}, strict=other.strict)
 
     def __call__(self, use, world):
         """The list of the events of a use in a world."""

@@ -12,10 +12,10 @@ MOST_LEAVES = 400
 
 
 class Kept:
-    """A program with the ways of its uses, as far as they were gone through."""
+    """A program, told by its tops, with the ways of its uses, as far as they were gone through."""
 
-    def __init__(self, program):
-        self.built = Built(program)
+    def __init__(self, tops):
+        self.built = Built(tops)
         self.ways = {}
         self.leaves = {}
 

@@ -2,10 +2,10 @@
 
 from turnedparts.alikes import Unlike, gone_through
 from turnedparts.codes import Built
-from turnedparts.errors import Handed, Ring, TooLarge
+from turnedparts.errors import BadProgram, Handed, Ring, TooLarge
 from turnedparts.forms import uses_of
 from turnedparts.judging import Kept
-from turnedparts.programs import check_program, is_program
+from turnedparts.programs import checked
 from turnedparts.reach import Reach
 from turnedparts.taking import in_order, without
 
@@ -35,9 +35,10 @@ class Turns:
     """A program from which statements are taken away, turn by turn."""
 
     def __init__(self, program):
+        tops = checked(program)
         self.left = {module: program[module] for module in program}
-        self.kept = Kept(program)
-        self.reach = Reach(program)
+        self.kept = Kept(tops)
+        self.reach = Reach(tops)
         self.reasons = []
 
     def see_no_errors(self):
@@ -62,24 +63,26 @@ class Turns:
     def takes_away(self, module, number):
         """Take a statement away, if this changes nothing; keep the reason, if not."""
         less = {**self.left, module: without(self.left[module], number)}
-        is_alike, reason = self.compared(less, self.reach.hanging_on(module, number))
+        try:
+            tops = checked(less)
+        except BadProgram:
+            self.reasons.append(None)
+            return False
+        is_alike, reason = self.compared(Built(tops), self.reach.hanging_on(module, number))
         if is_alike:
             self.left = less
-            self.kept = Kept(less)
-            self.reach = Reach(less)
+            self.kept = Kept(tops)
+            self.reach = Reach(tops)
         else:
             self.reasons.append(reason)
         return is_alike
 
-    def compared(self, less, names):
+    def compared(self, built, names):
         """Whether a program is alike to what is left, and the Unlike, or None.
 
         Only names of tops that are told can tell them apart: all else is the same in both, and
         what is left was judged without errors.
         """
-        if not is_program(less):
-            return False, None
-        built = Built(less)
         try:
             unlike = gone_through(self.kept, built, uses_of([self.kept.built, built], names))[1]
         except (Ring, Handed, TooLarge):
@@ -89,7 +92,6 @@ class Turns:
 
 def lean(program):
     """What is left of a program without the statements that change nothing, and the reasons for the others."""
-    check_program(program)
     turns = Turns(program)
     turns.see_no_errors()
     while turns.turn():

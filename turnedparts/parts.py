@@ -1,7 +1,38 @@
 """The parts of statements and expressions that are of the right form."""
 
-from turnedparts.shapes import EXPRESSIONS, STATEMENTS
-
+# What stands behind the first word, part by part.
+EXPRESSIONS = {
+    "none": (),
+    "name": ("name",),
+    "text": ("text",),
+    "tuple": ("exprs",),
+    "attr": ("expr", "field"),
+    "op": ("name", "exprs"),
+    "call": ("expr", "exprs", "named"),
+    "choice": ("expr", "expr", "expr"),
+    "lambda": ("params", "expr"),
+}
+STATEMENTS = {
+    "use": ("name",),
+    "take": ("name", "name", "name"),
+    "def": ("name", "params", "block"),
+    "class": ("name", "bases", "block"),
+    "let": ("name", "expr"),
+    "unpack": ("names", "expr"),
+    "set": ("expr", "field", "expr"),
+    "if": ("expr", "block", "rest"),
+    "for": ("name", "exprs", "block"),
+    "each": ("name", "expr", "block"),
+    "return": ("maybe",),
+    "yield": ("expr",),
+    "raise": ("name", "maybe"),
+    "try": ("block", "handlers", "rest"),
+    "with": ("expr", "called", "block"),
+    "nonlocal": ("names",),
+    "see": ("expr",),
+    "do": ("expr",),
+    "pass": (),
+}
 # Only these have blocks; the others are looked through most often.
 WITH_BLOCKS = {
     "def": True, "class": True, "if": True, "for": True, "each": True, "try": True, "with": True,
@@ -127,8 +158,3 @@ def own_names(params, block):
     beyond = beyond_of(block)
     names = [row[0] for row in params] + given_in(block)
     return {name: True for name in names if name not in beyond}
-
-
-def yields(block):
-    """Whether a function with a block yields."""
-    return any([statement[0] == "yield" for statement in inside(block)])

@@ -1,30 +1,41 @@
 """What is a program, and what is not."""
 
 from turnedparts.errors import BadProgram
-from turnedparts.parts import blocks_of
-from turnedparts.rules import Rules
-from turnedparts.shapes import DEEPEST, fits_statement
+from turnedparts.looking import Looker
+from turnedparts.rules import faults_of
 from turnedparts.tops import Tops
 from turnedparts.words import is_name
 
 MOST_MODULES = 8
-MOST_STATEMENTS = 200
 
 
 def check_program(program):
     """Raise BadProgram, if a value is no program."""
+    checked(program)
+
+
+def checked(program):
+    """What is known of a program that was looked through (BadProgram: it is none)."""
     if not isinstance(program, dict) or not 1 <= len(program) <= MOST_MODULES:
         raise BadProgram(None, None)
     if not all([is_name(module) for module in program]):
         raise BadProgram(None, None)
+    names = {}
+    lookers = []
     for module in sorted(program):
-        check_form(module, program[module])
-    tops = Tops(program)
-    for module in sorted(program):
-        rules = Rules(tops, module)
-        rules.look_at_top(program[module])
-        if rules.faults:
-            raise BadProgram(module, min(rules.faults))
+        if not isinstance(program[module], tuple):
+            raise BadProgram(module, None)
+        looker = Looker(module, names)
+        looker.look_at_top(program[module])
+        lookers.append(looker)
+    functions = {(looker.module, scope.number): scope for looker in lookers for scope in looker.scopes}
+    classes = {(looker.module, number): rows for looker in lookers for number, rows in looker.classes}
+    tops = Tops({looker.module: looker.rows for looker in lookers}, functions, classes)
+    for looker in lookers:
+        faults = faults_of(looker, tops)
+        if faults:
+            raise BadProgram(looker.module, min(faults))
+    return tops
 
 
 def is_program(program):
@@ -34,20 +45,3 @@ def is_program(program):
     except BadProgram:
         return False
     return True
-
-
-def check_form(module, block):
-    if not isinstance(block, tuple):
-        raise BadProgram(module, None)
-    check_block(module, block, 0, 1)
-
-
-def check_block(module, block, number, depth):
-    """Look at the forms of a block's statements; the number behind them."""
-    for statement in block:
-        if number >= MOST_STATEMENTS or depth > DEEPEST or not fits_statement(statement):
-            raise BadProgram(module, number)
-        number = number + 1
-        for inner in blocks_of(statement):
-            number = check_block(module, inner, number, depth + 1)
-    return number

@@ -2,14 +2,13 @@
 
 from turnedparts.parts import exprs_of, exprs_within
 from turnedparts.taking import in_order
-from turnedparts.tops import Tops
 
 
 class Reach:
     """The names of a program's tops, as pairs of a module and a name, with what names them."""
 
-    def __init__(self, program):
-        self.tops = Tops(program)
+    def __init__(self, tops):
+        self.tops = tops
         self.users = {}
         for module in self.tops.rows:
             for name in self.tops.rows[module]:

@@ -3,9 +3,8 @@
 from turnedparts.errors import BadText
 from turnedparts.lines import LINES
 from turnedparts.parts import WITH_BLOCKS
-from turnedparts.programs import MOST_STATEMENTS
-from turnedparts.shapes import DEEPEST
 from turnedparts.tokens import Cursor
+from turnedparts.words import DEEPEST, MOST_STATEMENTS
 
 
 def read_module(told):

@@ -1,7 +1,7 @@
 """New names for variables: which can have them, and which place they catch."""
 
 from turnedparts.bound import Names, params_of
-from turnedparts.errors import BadNames, Fixed
+from turnedparts.errors import BadNames, BadProgram, Fixed
 from turnedparts.fresh import fresh_names, strings_of
 from turnedparts.places import is_path, part_at, with_parts
 from turnedparts.programs import is_program
@@ -63,10 +63,10 @@ class Variables:
 
     def caught(self, names):
         """The place that new names catch, a pair of a module and a path, or None."""
-        program = self.renamed(names)
-        if not is_program(program):
+        try:
+            late = Names(self.renamed(names))
+        except BadProgram:
             return self.caught_by_no_program(names)
-        late = Names(program)
         if late.loose != self.names.loose:
             return (None, ())
         return self.caught_by_another_meaning(late.spots, names)

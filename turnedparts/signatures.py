@@ -7,7 +7,7 @@ from turnedparts.fresh import fresh_names, strings_of
 from turnedparts.parts import defaults_of
 from turnedparts.places import is_within, part_at, place_of, with_block, with_part
 from turnedparts.programs import check_program, is_program
-from turnedparts.shapes import fits_params
+from turnedparts.shapes import are_params
 from turnedparts.words import is_public
 
 STILL = ("text", "none")
@@ -55,7 +55,7 @@ def private_def(names, module, name):
 
 def see_plan(function, plan):
     """Raise BadPlan, if a value is no plan for a function."""
-    if not fits_params(plan, 1):
+    if not are_params(plan):
         raise BadPlan("no parameters")
     old = [row[0] for row in function[2]]
     for name, _, default in plan:

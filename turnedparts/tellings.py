@@ -1,10 +1,10 @@
 """What is so for uses with all inputs, meanings, truths, and ways of outside."""
 
 from turnedparts.asking import check_use
-from turnedparts.forms import uses_of
+from turnedparts.forms import see_not_too_large, uses_of
 from turnedparts.judging import Kept
 from turnedparts.parts import numbered, size_of
-from turnedparts.programs import check_program
+from turnedparts.programs import checked
 from turnedparts.terms import has_number
 
 
@@ -29,8 +29,7 @@ def hangs_on(program, use):
 
 def never_done(program):
     """The ascending list of the modules and numbers of the statements in functions that are never done."""
-    check_program(program)
-    kept = Kept(program)
+    kept = Kept(checked(program))
     kept.built.trace()
     for use in uses_of([kept.built]):
         kept.plain_leaves(use)
@@ -39,10 +38,9 @@ def never_done(program):
 
 def gone_through(program, use):
     """A program whose use can be gone through."""
-    check_program(program)
+    kept = Kept(checked(program))
     check_use(use)
-    kept = Kept(program)
-    uses_of([kept.built])
+    see_not_too_large(kept.built)
     return kept
 
 

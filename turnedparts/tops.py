@@ -1,22 +1,22 @@
 """The names of the modules' tops, and what they mean."""
 
-from turnedparts.parts import numbered
-
 
 def given_by_top(statement):
-    """The name that a statement of a module's top gives, or None."""
-    if statement[0] in ("use", "def", "class", "let"):
-        return statement[1]
-    if statement[0] == "take":
-        return statement[3]
-    return None
+    """The name that a statement of a module's top gives."""
+    return statement[3] if statement[0] == "take" else statement[1]
 
 
 class Tops:
-    """The names of the tops of a program's modules, with the statements that give them."""
+    """The names of the tops of a program's modules, with the numbers and statements that give them.
 
-    def __init__(self, program):
-        self.rows = {module: named_rows(program[module]) for module in program}
+    With them goes what is known of the program's defs and classes, by the module and number: the
+    scopes of defs, and the numbers and statements by the names that they give in classes.
+    """
+
+    def __init__(self, rows, functions, classes):
+        self.rows = rows
+        self.functions = functions
+        self.classes = classes
 
     def has(self, module, name):
         """Whether a name is given in a module's top."""
@@ -37,12 +37,3 @@ class Tops:
         """Whether a name means a statement of a kind, itself or through takes."""
         found = self.meant(module, name)
         return found is not None and found[2][0] == kind
-
-
-def named_rows(block):
-    rows = {}
-    for number, statement in numbered(block, 0):
-        name = given_by_top(statement)
-        if name is not None and name not in rows:
-            rows[name] = (number, statement)
-    return rows

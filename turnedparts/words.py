@@ -1,8 +1,12 @@
 """Names and texts: the words that programs are made of."""
 
-LETTERS = "abcdefghijklmnopqrstuvwxyz"
 SIGNS = "abcdefghijklmnopqrstuvwxyz_"
+BLANK_OR_LETTER = " abcdefghijklmnopqrstuvwxyz"
 LONGEST = 12
+# How deep expressions, and statements, are nested, and how many statements a module has.
+DEEPEST = 12
+MOST_STATEMENTS = 200
+KINDS = ("front", "plain", "only")
 KEYWORDS = {
     "use": True, "from": True, "take": True, "as": True, "def": True, "class": True, "if": True,
     "else": True, "for": True, "in": True, "each": True, "return": True, "yield": True,
@@ -27,7 +31,7 @@ def is_text(thing):
     """Whether a value can be the text of a text."""
     if not isinstance(thing, str) or len(thing) > LONGEST:
         return False
-    return all([sign == " " or sign in LETTERS for sign in thing])
+    return not thing.strip(BLANK_OR_LETTER)
 
 
 def is_whole(thing):
