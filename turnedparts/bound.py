@@ -55,9 +55,9 @@ class Names:
         self.calls = []
         self.loose = {}
         for module in program:
-            self.look_at_module(module, program[module])
+            self.bind_module(module, program[module])
         for row in self.calls:
-            self.look_at_named(row)
+            self.bind_named(row)
 
     def places_of(self, variable):
         """The ascending places of the names that mean a variable."""
@@ -67,12 +67,12 @@ class Names:
         """Whether a let stands at a path."""
         return part_at(self.program[module], path)[0] == "let"
 
-    def look_at_module(self, module, block):
-        """Look at all names of a module, but for those at calls."""
+    def bind_module(self, module, block):
+        """Bind all names of a module, but for those at calls."""
         self.module = module
         home = Home((), self.tops.rows[module], None)
         for at, statement in enumerate(block):
-            self.look_at_statement(statement, (at,), home)
+            self.bind_statement(statement, (at,), home)
 
     def mean(self, path, name, home, role):
         """Keep that a name means a variable of a scope or those around; the variable."""
@@ -85,18 +85,18 @@ class Names:
         variable = self.mean(path, name, home, "give")
         self.givers.setdefault(variable, []).append((path, giver))
 
-    def look_at_statement(self, statement, path, home):
-        """Look at the names of a statement and of those in it."""
+    def bind_statement(self, statement, path, home):
+        """Bind the names of a statement and of those in it."""
         kind = statement[0]
         if kind == "if":
-            self.look_at_expr(statement[1], (*path, 1), home)
-            self.look_at_block(statement[2], (*path, 2), home)
-            self.look_at_block(statement[3], (*path, 3), home)
+            self.bind_expr(statement[1], (*path, 1), home)
+            self.bind_block(statement[2], (*path, 2), home)
+            self.bind_block(statement[3], (*path, 3), home)
         elif kind == "try":
-            self.look_at_try(statement, path, home)
+            self.bind_try(statement, path, home)
         elif kind in ("def", "class", "for", "each", "with"):
-            look_at_kind = WITH_BLOCK[kind]
-            look_at_kind(self, statement, path, home)
+            bind_kind = WITH_BLOCK[kind]
+            bind_kind(self, statement, path, home)
         elif kind == "take":
             taken = (statement[1], (), statement[2])
             self.spots[(self.module, (*path, 2))] = Spot((), taken, "take")
@@ -111,63 +111,63 @@ class Names:
                 self.mean((*path, 1, at), name, home, "nonlocal")
         for at in EXPRS_AT.get(kind, ()):
             if statement[at] is not None:
-                self.look_at_expr(statement[at], (*path, at), home)
+                self.bind_expr(statement[at], (*path, at), home)
 
-    def look_at_block(self, block, path, home):
+    def bind_block(self, block, path, home):
         for at, statement in enumerate(block):
-            self.look_at_statement(statement, (*path, at), home)
+            self.bind_statement(statement, (*path, at), home)
 
-    def look_at_try(self, statement, path, home):
-        self.look_at_block(statement[1], (*path, 1), home)
+    def bind_try(self, statement, path, home):
+        self.bind_block(statement[1], (*path, 1), home)
         for at, row in enumerate(statement[2]):
             if row[1] is not None:
                 self.give((*path, 2, at, 1), row[1], home, statement)
-            self.look_at_block(row[2], (*path, 2, at, 2), home)
-        self.look_at_block(statement[3], (*path, 3), home)
+            self.bind_block(row[2], (*path, 2, at, 2), home)
+        self.bind_block(statement[3], (*path, 3), home)
 
-    def look_at_exprs(self, exprs, path, home):
+    def bind_exprs(self, exprs, path, home):
         for at, told in enumerate(exprs):
-            self.look_at_expr(told, (*path, at), home)
+            self.bind_expr(told, (*path, at), home)
 
-    def look_at_params(self, params, path, outer, home):
-        """Look at the names of parameters, and at their defaults, which stand in the scope around."""
+    def bind_params(self, params, path, outer, home):
+        """Bind the names of parameters, and at their defaults, which stand in the scope around."""
         for at, row in enumerate(params):
             self.give((*path, at, 0), row[0], home, None)
             if row[2] is not None:
-                self.look_at_expr(row[2], (*path, at, 2), outer)
+                self.bind_expr(row[2], (*path, at, 2), outer)
 
-    def look_at_expr(self, told, path, home):
-        """Look at the names of an expression."""
+    def bind_expr(self, told, path, home):
+        """Bind the names of an expression."""
         kind = told[0]
         if kind == "name":
             self.mean((*path, 1), told[1], home, "use")
         elif kind == "attr":
-            self.look_at_expr(told[1], (*path, 1), home)
-            self.look_at_attribute(told, path, home)
+            self.bind_expr(told[1], (*path, 1), home)
+            self.bind_attribute(told, path, home)
         elif kind in ("op", "call"):
             if kind == "call":
-                self.look_at_expr(told[1], (*path, 1), home)
-                self.look_at_call(told, path, home)
-            self.look_at_exprs(told[2], (*path, 2), home)
+                self.bind_expr(told[1], (*path, 1), home)
+                self.bind_call(told, path, home)
+            self.bind_exprs(told[2], (*path, 2), home)
         elif kind == "tuple":
-            self.look_at_exprs(told[1], (*path, 1), home)
+            self.bind_exprs(told[1], (*path, 1), home)
         elif kind == "choice":
             for at in (1, 2, 3):
-                self.look_at_expr(told[at], (*path, at), home)
+                self.bind_expr(told[at], (*path, at), home)
         elif kind == "lambda":
             inner = Home(path, {row[0]: True for row in told[1]}, home)
-            self.look_at_params(told[1], (*path, 1), home, inner)
-            self.look_at_expr(told[2], (*path, 2), inner)
+            self.bind_params(told[1], (*path, 1), home, inner)
+            self.bind_expr(told[2], (*path, 2), inner)
 
-    def look_at_call(self, told, path, home):
-        """Look at the named arguments; what their names mean is known when all else is."""
+    def bind_call(self, told, path, home):
+        """Bind the named arguments; what their names mean is known when all else is."""
         if told[3]:
             self.calls.append((self.module, path, told, home.place))
         for at, pair in enumerate(told[3]):
-            self.look_at_expr(pair[1], (*path, 3, at, 1), home)
+            self.bind_expr(pair[1], (*path, 3, at, 1), home)
 
-    def look_at_attribute(self, told, path, home):
-        """Look at the attribute of a name that means a use."""
+    def bind_attribute(self, told, path, home):
+        """Bind the attribute of a name that means a use."""
         if told[1][0] != "name":
             return
         module = self.used(self.spots[(self.module, (*path, 1, 1))].variable)
@@ -182,8 +182,8 @@ class Names:
         found = self.tops.meant(variable[0], variable[2])
         return found[2][1] if found is not None and found[2][0] == "use" else None
 
-    def look_at_named(self, row):
-        """Look at the names at a call."""
+    def bind_named(self, row):
+        """Bind the names at a call."""
         module, path, told, place = row
         params = self.called_params(self.called(module, path, told[1]))
         for at, pair in enumerate(told[3]):
@@ -224,54 +224,54 @@ def params_of(module, path, statement):
     return {row[0]: (module, path, row[0]) for row in statement[2]}
 
 
-def look_at_def(names, statement, path, home):
-    """Look at a def of a top or a function."""
+def bind_def(names, statement, path, home):
+    """Bind a def of a top or a function."""
     names.give((*path, 1), statement[1], home, statement)
-    look_at_function(names, statement, path, home)
+    bind_function(names, statement, path, home)
 
 
-def look_at_function(names, statement, path, home):
+def bind_function(names, statement, path, home):
     inner = Home(path, own_names(statement[2], statement[3]), home)
-    names.look_at_params(statement[2], (*path, 2), home, inner)
-    names.look_at_block(statement[3], (*path, 3), inner)
+    names.bind_params(statement[2], (*path, 2), home, inner)
+    names.bind_block(statement[3], (*path, 3), inner)
 
 
-def look_at_class(names, statement, path, home):
-    """Look at a class, whose block is no scope, and whose defs and lets are no variables."""
+def bind_class(names, statement, path, home):
+    """Bind a class, whose block is no scope, and whose defs and lets are no variables."""
     names.give((*path, 1), statement[1], home, statement)
-    names.look_at_exprs(statement[2], (*path, 2), home)
+    names.bind_exprs(statement[2], (*path, 2), home)
     for at, inner in enumerate(statement[3]):
         if inner[0] == "def":
-            look_at_function(names, inner, (*path, 3, at), home)
+            bind_function(names, inner, (*path, 3, at), home)
         elif inner[0] == "let":
-            names.look_at_expr(inner[2], (*path, 3, at, 2), home)
+            names.bind_expr(inner[2], (*path, 3, at, 2), home)
 
 
-def look_at_for(names, statement, path, home):
+def bind_for(names, statement, path, home):
     names.give((*path, 1), statement[1], home, statement)
-    names.look_at_exprs(statement[2], (*path, 2), home)
-    names.look_at_block(statement[3], (*path, 3), home)
+    names.bind_exprs(statement[2], (*path, 2), home)
+    names.bind_block(statement[3], (*path, 3), home)
 
 
-def look_at_each(names, statement, path, home):
+def bind_each(names, statement, path, home):
     names.give((*path, 1), statement[1], home, statement)
-    names.look_at_expr(statement[2], (*path, 2), home)
-    names.look_at_block(statement[3], (*path, 3), home)
+    names.bind_expr(statement[2], (*path, 2), home)
+    names.bind_block(statement[3], (*path, 3), home)
 
 
-def look_at_with(names, statement, path, home):
-    names.look_at_expr(statement[1], (*path, 1), home)
+def bind_with(names, statement, path, home):
+    names.bind_expr(statement[1], (*path, 1), home)
     if statement[2] is not None:
         names.give((*path, 2), statement[2], home, statement)
-    names.look_at_block(statement[3], (*path, 3), home)
+    names.bind_block(statement[3], (*path, 3), home)
 
 
 WITH_BLOCK = {
-    "def": look_at_def,
-    "class": look_at_class,
-    "for": look_at_for,
-    "each": look_at_each,
-    "with": look_at_with,
+    "def": bind_def,
+    "class": bind_class,
+    "for": bind_for,
+    "each": bind_each,
+    "with": bind_with,
 }
 # Where in statements without blocks expressions stand.
 EXPRS_AT = {

@@ -32,7 +32,7 @@ class Built:
         self.found = {}
         # The statements in functions that are done, by module and number, if they are traced.
         self.is_traced = False
-        self.done = {}
+        self.marked = {}
 
     def trace(self):
         """Keep, from here on, which statements in functions are done."""

@@ -54,7 +54,7 @@ def see(run, frame, row):
 
 
 def mark_as_done(run, frame, row):
-    run.built.done[row[1]] = True
+    run.built.marked[row[1]] = True
 
 
 def leave_by_return(run, frame, row):

@@ -83,7 +83,7 @@ class Square:
         for at, step in enumerate(others):
             self.programs[(0, at + 1)] = step.done(self.programs[(0, at)])
 
-    def told(self, one, other):
+    def look(self, one, other):
         """Whether the steps of a square go together; what comes of them is kept, if they do."""
         place = (one, other)
         program, first, second = self.programs[place], self.ones[place], self.others[place]
@@ -127,7 +127,7 @@ def merged(program, ones, others):
         for one in range(total + 1):
             other = total - one
             if one < many and other < more:
-                found = square.told(one, other)
+                found = square.look(one, other)
                 if not found:
                     return Clash(one, other, found)
     early = [square.ones[(at, more)] for at in range(many)]

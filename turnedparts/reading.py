@@ -60,7 +60,7 @@ class Reader:
             self.misfit()
         self.many_statements += 1
         cursor = self.cursor()
-        word = cursor.told() if cursor.kind() == "word" else ""
+        word = cursor.word() if cursor.kind() == "word" else ""
         if word in ("else", "except", "finally"):
             self.misfit()
         head = self.head(word if word in LINES else "")

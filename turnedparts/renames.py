@@ -42,13 +42,13 @@ class Variables:
         if not isinstance(names, dict):
             raise BadNames("no dict")
         for variable in names:
-            if not self.has(variable) or not is_name(names[variable]):
+            if not self.knows(variable) or not is_name(names[variable]):
                 raise BadNames("no dict from variables to names")
         for variable in sorted(names):
             if not self.can_have(variable, names[variable]):
                 raise Fixed(variable)
 
-    def has(self, thing):
+    def knows(self, thing):
         """Whether a value is a variable."""
         # True is a number to dicts.
         return thing in self.places and is_path(thing[1])
@@ -90,7 +90,7 @@ class Variables:
                 return key
         return None
 
-    def others(self, names):
+    def further(self, names):
         """The ascending variables that are not fixed and not asked for."""
         return [variable for variable in sorted(self.places) if variable not in self.fixed and variable not in names]
 

@@ -63,7 +63,7 @@ def needed(found, names):
 
     Whether one must have a new name hangs on those that are asked for, not on further ones.
     """
-    others = found.others(names)
+    others = found.further(names)
     rest = dict(zip(others, found.fresh(names, len(others))))
     place = found.caught({**names, **rest})
     if place is not None:

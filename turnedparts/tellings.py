@@ -33,7 +33,7 @@ def never_done(program):
     kept.built.trace()
     for use in uses_of([kept.built]):
         kept.plain_leaves(use)
-    return [row for row in in_functions(program) if row not in kept.built.done]
+    return [row for row in in_functions(program) if row not in kept.built.marked]
 
 
 def gone_through(program, use):

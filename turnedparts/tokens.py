@@ -17,7 +17,7 @@ class Cursor:
         """What stands here: word, text, sign or end."""
         return self.rows[self.at][0]
 
-    def told(self):
+    def word(self):
         """The word, text or sign that stands here."""
         return self.rows[self.at][1]
 
@@ -27,17 +27,17 @@ class Cursor:
 
     def is_at(self, kind, told):
         """Whether a word or sign stands here."""
-        return self.kind() == kind and self.told() == told
+        return self.kind() == kind and self.word() == told
 
     def is_at_named(self):
         """Whether a name with = behind it stands here."""
-        if self.kind() != "word" or not is_name(self.told()):
+        if self.kind() != "word" or not is_name(self.word()):
             return False
         return self.rows[self.at + 1][:2] == ("sign", "=")
 
     def take(self):
         """Go on; what stood here."""
-        told = self.told()
+        told = self.word()
         self.at += 1
         return told
 
@@ -55,13 +55,13 @@ class Cursor:
 
     def name(self, taken):
         """Go on behind a name that must stand here, and is none of those taken."""
-        if self.kind() != "word" or not is_name(self.told()) or self.told() in taken:
+        if self.kind() != "word" or not is_name(self.word()) or self.word() in taken:
             self.misfit()
         return self.take()
 
     def text(self):
         """Go on behind a text that must stand here."""
-        if self.kind() != "text" or not is_text(self.told()):
+        if self.kind() != "text" or not is_text(self.word()):
             self.misfit()
         return self.take()
 
