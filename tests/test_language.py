@@ -137,6 +137,9 @@ class Language(unittest.TestCase):
                     self.assertNotIn("%", node.value)
             if isinstance(node, ast.SetComp):
                 self.fail(name)
+            if isinstance(node, ast.Subscript):
+                for inner in ast.walk(node.slice):
+                    self.assertNotIsInstance(inner, ast.Starred, (name, node.lineno))
 
     def test_names(self):
         classes = {node.name for _, node in nodes() if isinstance(node, ast.ClassDef)}

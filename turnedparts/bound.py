@@ -77,8 +77,12 @@ class Names:
     def mean(self, path, name, home, role):
         """Keep that a name means a variable of a scope or those around; the variable."""
         variable = (self.module, home.owner(name).place, name)
-        self.spots[(self.module, path)] = Spot(home.place, variable, role)
+        self.put_spot(path, Spot(home.place, variable, role))
         return variable
+
+    def put_spot(self, path, spot):
+        """Keep what a name at a path of the module means."""
+        self.spots[(self.module, path)] = spot
 
     def give(self, path, name, home, giver):
         """Keep that a name is given what a statement gives, or what a parameter gets."""
@@ -98,8 +102,7 @@ class Names:
             bind_kind = WITH_BLOCK[kind]
             bind_kind(self, statement, path, home)
         elif kind == "take":
-            taken = (statement[1], (), statement[2])
-            self.spots[(self.module, (*path, 2))] = Spot((), taken, "take")
+            self.put_spot((*path, 2), Spot((), (statement[1], (), statement[2]), "take"))
             self.give((*path, 3), statement[3], home, statement)
         elif kind in ("use", "let"):
             self.give((*path, 1), statement[1], home, statement)
@@ -170,10 +173,11 @@ class Names:
         """Bind the attribute of a name that means a use."""
         if told[1][0] != "name":
             return
-        module = self.used(self.spots[(self.module, (*path, 1, 1))].variable)
+        first = (*path, 1, 1)
+        module = self.used(self.spots[(self.module, first)].variable)
         if module is not None:
             variable = (module, (), told[2]) if self.tops.has(module, told[2]) else None
-            self.spots[(self.module, (*path, 2))] = Spot(home.place, variable, "attr")
+            self.put_spot((*path, 2), Spot(home.place, variable, "attr"))
 
     def used(self, variable):
         """The module of the use that a variable means, itself or through takes, or None."""
@@ -187,10 +191,11 @@ class Names:
         module, path, told, place = row
         params = self.called_params(self.called(module, path, told[1]))
         for at, pair in enumerate(told[3]):
+            key = (module, (*path, 3, at, 0))
             if pair[0] in params:
-                self.spots[(module, (*path, 3, at, 0))] = Spot(place, params[pair[0]], "named")
+                self.spots[key] = Spot(place, params[pair[0]], "named")
             else:
-                self.loose[(module, (*path, 3, at, 0))] = True
+                self.loose[key] = True
 
     def called(self, module, path, told):
         """The variable that what is called means, or None."""
